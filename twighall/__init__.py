@@ -1,0 +1,1 @@
+"""Twighall: trees on a ground, counted, exchanged, the lightest, and their words."""
