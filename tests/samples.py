@@ -1,5 +1,7 @@
 """Things to ask of, and answers found another way than the package finds them."""
 
+import re
+from fractions import Fraction
 from itertools import combinations
 
 FORK = (4, ((0, 1, 5), (0, 2, 0), (0, 3, 1000), (1, 2, 7)))
@@ -16,6 +18,27 @@ def every_pair(many):
 
 def whole_ground(many):
     return (many, tuple((one, other, 1) for one, other in every_pair(many)))
+
+
+def ring(many):
+    return (many, tuple((spot, spot + 1, 2) for spot in range(many - 1)) + ((0, many - 1, 5),))
+
+
+def mixed_ground(many, size, seed):
+    """A ground whose lines lie as if by chance, but the same at each run."""
+    lines = []
+    for _ in range(size):
+        numbers = []
+        for _ in range(2):
+            seed = (seed * 1103515245 + 12345) % 2 ** 31
+            numbers.append(seed // 2 ** 12)
+        one, other = every_pair(many)[numbers[0] % len(every_pair(many))]
+        lines.append((one, other, numbers[1] % 1001))
+    return (many, tuple(lines))
+
+
+def mixed_grounds(size):
+    return [mixed_ground(many, size, seed) for many in range(2, 8) for seed in range(3)]
 
 
 def nested(kind, depth):
@@ -141,3 +164,50 @@ def expect_plain_tree(thing, many):
     if list(thing) != sorted(set(thing)) or len(thing) + 1 != many:
         return False
     return len(reached(many, thing, 0)) == many
+
+
+def expect_trees(ground):
+    some = combinations(range(len(ground[1])), ground[0] - 1)
+    return tuple(thing for thing in some if expect_tree(thing, ground))
+
+
+def expect_count(ground):
+    """How many trees there are, by Kirchhoff's rows: no tree is looked for here."""
+    many, lines = ground
+    rows = [[Fraction(0)] * many for _ in range(many)]
+    for one, other, _ in lines:
+        rows[one][one] += 1
+        rows[other][other] += 1
+        rows[one][other] -= 1
+        rows[other][one] -= 1
+    return determinant([row[1:] for row in rows[1:]])
+
+
+def determinant(rows):
+    if not rows:
+        return 1
+    for place, row in enumerate(rows):
+        if row[0] != 0:
+            rest = rows[:place] + rows[place + 1:]
+            smaller = [[part - other[0] * first / row[0] for part, first in zip(other[1:], row[1:])] for other in rest]
+            return (-1) ** place * row[0] * determinant(smaller)
+    return 0
+
+
+def expect_read(text):
+    """The ground of which the text is the writing, or None."""
+    number = "(?:0|[1-9][0-9]*)"
+    if not re.fullmatch(f"spots {number}(?: line {number} {number} {number})*", text):
+        return None
+    if max(len(word) for word in text.split(" ")) > 5:
+        return None
+    numbers = [int(word) for word in re.findall("[0-9]+", text)]
+    ground = (numbers[0], tuple(tuple(numbers[place:place + 3]) for place in range(1, len(numbers), 3)))
+    return ground if expect_ground(ground) else None
+
+
+def is_made_of_tuples(thing):
+    """Whether the thing is made of tuples, texts and whole numbers alone."""
+    if type(thing) is tuple:
+        return all(is_made_of_tuples(part) for part in thing)
+    return type(thing) in (int, str)

@@ -66,6 +66,37 @@ class Form(unittest.TestCase):
             for alias in node.names:
                 self.assertIn(alias.name, defined, place)
 
+    def test_no_two_files_draw_from_one_another(self):
+        drawn = {}
+        for file in FILES:
+            rows = ast.walk(ast.parse(file.read_text(encoding="utf-8")))
+            drawn[file.stem] = {row.module.split(".")[-1] for row in rows if isinstance(row, ast.ImportFrom)}
+        # A file that draws only from files that are done is done: in a ring none ever is.
+        done = set()
+        for _ in FILES:
+            done |= {name for name in drawn if drawn[name] <= done}
+        self.assertEqual(done, set(drawn))
+
+    def test_each_name_once(self):
+        for file in FILES:
+            names = []
+            for part in ast.parse(file.read_text(encoding="utf-8")).body:
+                if isinstance(part, (ast.FunctionDef, ast.ClassDef)):
+                    names.append(part.name)
+                elif isinstance(part, ast.ImportFrom):
+                    names += [alias.asname or alias.name for alias in part.names]
+                elif isinstance(part, ast.Assign):
+                    names.append(part.targets[0].id)
+            self.assertEqual(len(names), len(set(names)), file)
+
+    def test_no_local_is_called_like_an_import_or_a_class(self):
+        for file in FILES:
+            nodes = list(ast.walk(ast.parse(file.read_text(encoding="utf-8"))))
+            taken = {node.name for node in nodes if isinstance(node, (ast.ClassDef, ast.alias))}
+            stored = {node.id for node in nodes if isinstance(node, ast.Name) and isinstance(node.ctx, ast.Store)}
+            given = {node.arg for node in nodes if isinstance(node, ast.arg)}
+            self.assertEqual(taken & (stored | given), set(), file)
+
     def test_tops(self):
         for file in FILES:
             body = ast.parse(file.read_text(encoding="utf-8")).body
@@ -113,6 +144,15 @@ class Form(unittest.TestCase):
         for place, node in self.each_node(ast.Expr):
             self.assertIsInstance(node.value, (ast.Call, ast.Constant), place)
 
+    def test_keywords(self):
+        for place, node in self.each_node(ast.keyword):
+            self.assertIn(node.arg, ("key", "reverse", "default", "start", "strict"), place)
+
+    def test_what_is_walked_at_once_is_not_kept(self):
+        for place, node in self.each_node(ast.Assign, ast.Return):
+            if isinstance(node.value, ast.Call) and isinstance(node.value.func, ast.Name):
+                self.assertNotIn(node.value.func.id, ("zip", "enumerate", "reversed", "range", "set"), place)
+
     def test_comprehensions(self):
         for place, node in self.each_node(ast.ListComp):
             self.assertEqual(len(node.generators), 1, place)
@@ -127,6 +167,7 @@ class Form(unittest.TestCase):
     def test_values(self):
         for place, node in self.each_node(ast.Constant):
             self.assertIn(type(node.value), (int, str, bool, type(None)), place)
+            self.assertNotIn("%", str(node.value), place)
 
 
 if __name__ == "__main__":

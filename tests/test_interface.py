@@ -1,7 +1,7 @@
 import inspect
 import unittest
 
-from twighall import things, writing
+from twighall import changing, counting, reading, things, writing
 
 
 class Interface(unittest.TestCase):
@@ -20,6 +20,19 @@ class Interface(unittest.TestCase):
 
     def test_writing(self):
         self.assert_arguments(writing.written, ["ground"])
+
+    def test_reading(self):
+        self.assert_arguments(reading.read, ["text"])
+
+    def test_counting(self):
+        self.assert_arguments(counting.trees, ["ground"])
+        self.assert_arguments(counting.count_trees, ["ground"])
+
+    def test_changing(self):
+        self.assert_arguments(changing.without, ["ground", "line"])
+        self.assert_arguments(changing.together, ["ground", "line"])
+        self.assert_arguments(changing.whole, ["many"])
+        self.assert_arguments(changing.bridges, ["ground"])
 
 
 if __name__ == "__main__":

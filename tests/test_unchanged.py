@@ -1,7 +1,10 @@
 import unittest
 
 from tests import samples
-from twighall.errors import NoGround
+from twighall.changing import bridges, together, whole, without
+from twighall.counting import count_trees, trees
+from twighall.errors import NoGround, NoText
+from twighall.reading import read
 from twighall.things import is_ground, is_plain_tree, is_tree, joined
 from twighall.writing import written
 
@@ -22,6 +25,25 @@ def written_or_refused(thing):
         return "refused"
 
 
+def read_or_refused(text):
+    try:
+        return read(text)
+    except NoText:
+        return "refused"
+
+
+def all_told(ground):
+    """What the functions that take a ground, one of its lines, its spots or its text tell of it."""
+    told = [trees(ground), count_trees(ground), bridges(ground), whole(ground[0]), read(written(ground))]
+    for line in range(len(ground[1])):
+        told += [without(ground, line), together(ground, line)]
+    return told
+
+
+def some_grounds():
+    return samples.GROUNDS + samples.mixed_grounds(6) + samples.mixed_grounds(12)
+
+
 class Unchanged(unittest.TestCase):
     def test_what_is_handed_in_is_not_changed(self):
         for whole in (samples.FORK, samples.TWINS, STAR, (0, 1, 2)):
@@ -38,6 +60,40 @@ class Unchanged(unittest.TestCase):
         some = [0, 2]
         joined(ground, some)
         self.assertEqual((ground, some), ([4, [[0, 1, 5], [0, 2, 0], [1, 3, 2]]], [0, 2]))
+
+    def test_grounds_handed_in_are_not_changed(self):
+        for ground in some_grounds():
+            before = kinds_and_parts(ground)
+            all_told(ground)
+            self.assertEqual(kinds_and_parts(ground), before)
+
+    def test_lists_handed_in_for_grounds_are_not_changed(self):
+        for ground in samples.GROUNDS:
+            listed = samples.as_lists(ground)
+            trees(listed)
+            count_trees(listed)
+            bridges(listed)
+            for line in range(len(ground[1])):
+                without(listed, line)
+                together(listed, line)
+            self.assertEqual(listed, samples.as_lists(ground))
+
+    def test_grounds_are_told_again_the_same(self):
+        first = [all_told(ground) for ground in some_grounds()]
+        again = [all_told(ground) for ground in reversed(some_grounds())]
+        self.assertEqual(first, again[::-1])
+
+    def test_texts_are_told_again_the_same(self):
+        texts = [written(ground) for ground in some_grounds()] + ["", "spots 8", "spots 1 ", "spots 2 line 1 0 1"]
+        first = [read_or_refused(text) for text in texts]
+        again = [read_or_refused(text) for text in reversed(texts)]
+        self.assertEqual(first, again[::-1])
+        self.assertEqual(first[-4:], ["refused"] * 4)
+
+    def test_no_list_stands_in_what_is_told(self):
+        for ground in some_grounds():
+            for told in all_told(ground):
+                self.assertTrue(samples.is_made_of_tuples(told))
 
     def test_asked_again_the_same_is_told(self):
         for _ in range(3):
