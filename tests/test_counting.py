@@ -88,6 +88,7 @@ class Counting(unittest.TestCase):
         self.assert_count((7, lines), 3 ** 3 * 4 ** 2)
 
     def test_somewhat_beyond_the_bounds(self):
+        self.assert_trees((0, ()), ())
         self.assert_trees((8, tuple((0, spot, 2000) for spot in range(1, 8))), (tuple(range(7)),))
         self.assert_trees((2, ((0, 1, 1),) * 23), tuple((number,) for number in range(23)))
         self.assertEqual(len(trees(samples.ring(9))), 9)

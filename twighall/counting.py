@@ -13,7 +13,8 @@ def trees(ground):
         for some, firsts in forests:
             larger.extend(grown(ground[1], some, firsts))
         forests = larger
-    return tuple([some for some, firsts in forests])
+    # Asked at the end for the sake of no spots at all: no lines are one fewer than these.
+    return tuple([some for some, firsts in forests if len(some) == many - 1])
 
 
 def grown(lines, some, firsts):
