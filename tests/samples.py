@@ -2,7 +2,8 @@
 
 import re
 from fractions import Fraction
-from itertools import combinations
+from functools import cache
+from itertools import combinations, product
 
 FORK = (4, ((0, 1, 5), (0, 2, 0), (0, 3, 1000), (1, 2, 7)))
 TWINS = (2, ((0, 1, 3), (0, 1, 3), (0, 1, 4)))
@@ -192,6 +193,71 @@ def determinant(rows):
             smaller = [[part - other[0] * first / row[0] for part, first in zip(other[1:], row[1:])] for other in rest]
             return (-1) ** place * row[0] * determinant(smaller)
     return 0
+
+
+def walked(lines, numbers, start):
+    """The spot to which one comes along these lines, one behind the other, or None where one can't go so."""
+    spot = start
+    for number in numbers:
+        ends = lines[number][:2]
+        if spot not in ends:
+            return None
+        spot = sum(ends) - spot
+    return spot
+
+
+def exchanged(tree, out, into):
+    return tuple(sorted(set(tree) - {out} | {into}))
+
+
+def row(spots):
+    """The plain tree that goes through these spots one behind the other."""
+    return tuple(sorted(tuple(sorted(pair)) for pair in zip(spots, spots[1:])))
+
+
+def star(many, middle):
+    return tuple(sorted(tuple(sorted((middle, spot))) for spot in range(many) if spot != middle))
+
+
+@cache
+def plain_trees(many):
+    return tuple(tree for tree in combinations(every_pair(many), many - 1) if expect_plain_tree(tree, many))
+
+
+def words(many):
+    return product(range(many), repeat=max(many - 2, 0))
+
+
+def expect_word(tree, many):
+    """By the neighbours of each spot that is left."""
+    near = {spot: {sum(pair) - spot for pair in tree if spot in pair} for spot in range(many)}
+    word = []
+    while len(near) > 2:
+        least = min(spot for spot in near if len(near[spot]) == 1)
+        (other,) = near.pop(least)
+        near[other].remove(least)
+        word.append(other)
+    return tuple(word)
+
+
+def expect_aparts(tree, many):
+    """For each two spots the fewest pairs between them, drawn from all ways through further spots."""
+    aparts = {(one, other): 0 if one == other else many for one, other in product(range(many), repeat=2)}
+    for one, other in tree:
+        aparts[one, other] = aparts[other, one] = 1
+    for through, one, other in product(range(many), repeat=3):
+        aparts[one, other] = min(aparts[one, other], aparts[one, through] + aparts[through, other])
+    return aparts
+
+
+def expect_middles(tree, many):
+    """The spots that are left when all spots in one pair alone are taken off, again and again."""
+    left = set(range(many))
+    pairs = list(tree)
+    while len(left) > 2:
+        left -= {spot for spot in left if sum(spot in pair for pair in pairs) == 1}
+        pairs = [pair for pair in pairs if set(pair) <= left]
+    return tuple(sorted(left))
 
 
 def expect_read(text):

@@ -23,6 +23,8 @@ Not BoolOp And Or Compare Eq NotEq Lt LtE Gt GtE Is IsNot In NotIn IfExp JoinedS
 WORDS = """type typing typing_extensions enum Enum IntEnum StrEnum Flag IntFlag Generic Protocol ABC ABCMeta
 namedtuple NamedTuple TypedDict TYPE_CHECKING abstractmethod""".split()
 
+WALKERS = "list tuple dict sorted sum any all enumerate zip min max".split()
+
 
 class Form(unittest.TestCase):
     def each_node(self, *kinds):
@@ -149,9 +151,31 @@ class Form(unittest.TestCase):
             self.assertIn(node.arg, ("key", "reverse", "default", "start", "strict"), place)
 
     def test_what_is_walked_at_once_is_not_kept(self):
-        for place, node in self.each_node(ast.Assign, ast.Return):
-            if isinstance(node.value, ast.Call) and isinstance(node.value.func, ast.Name):
-                self.assertNotIn(node.value.func.id, ("zip", "enumerate", "reversed", "range", "set"), place)
+        allowed = set()
+        for _, node in self.each_node(ast.For, ast.comprehension, ast.Call):
+            if not isinstance(node, ast.Call):
+                allowed.add(ast.dump(node.iter, include_attributes=True))
+            elif isinstance(node.func, ast.Name) and node.func.id in WALKERS and node.args:
+                allowed.add(ast.dump(node.args[0], include_attributes=True))
+        for place, node in self.each_node(ast.Call):
+            if isinstance(node.func, ast.Name) and node.func.id in ("zip", "enumerate", "reversed", "range"):
+                self.assertIn(ast.dump(node, include_attributes=True), allowed, place)
+
+    def test_no_sets(self):
+        for place, node in self.each_node(ast.Set, ast.Name):
+            self.assertIsInstance(node, ast.Name, place)
+            self.assertNotIn(node.id, ("set", "frozenset"), place)
+
+    def test_powers_have_a_written_exponent(self):
+        for place, node in self.each_node(ast.BinOp):
+            if isinstance(node.op, ast.Pow):
+                self.assertIsInstance(node.right, ast.Constant, place)
+
+    def test_nothing_of_a_file_s_top_is_a_list_or_a_dict(self):
+        for file in FILES:
+            for part in ast.parse(file.read_text(encoding="utf-8")).body:
+                if isinstance(part, ast.Assign):
+                    self.assertIsInstance(part.value, (ast.Constant, ast.Tuple), file)
 
     def test_comprehensions(self):
         for place, node in self.each_node(ast.ListComp):

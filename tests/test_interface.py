@@ -1,7 +1,7 @@
 import inspect
 import unittest
 
-from twighall import changing, counting, reading, things, writing
+from twighall import changing, counting, lightest, middles, reading, things, ways, words, writing
 
 
 class Interface(unittest.TestCase):
@@ -33,6 +33,25 @@ class Interface(unittest.TestCase):
         self.assert_arguments(changing.together, ["ground", "line"])
         self.assert_arguments(changing.whole, ["many"])
         self.assert_arguments(changing.bridges, ["ground"])
+
+    def test_ways(self):
+        self.assert_arguments(ways.way, ["ground", "tree", "one", "other"])
+        self.assert_arguments(ways.swaps, ["ground", "tree", "line"])
+        self.assert_arguments(ways.steps, ["ground", "first", "last"])
+
+    def test_lightest(self):
+        self.assert_arguments(lightest.length_of, ["ground", "some"])
+        self.assert_arguments(lightest.lightest, ["ground"])
+        self.assert_arguments(lightest.is_only, ["ground"])
+
+    def test_words(self):
+        self.assert_arguments(words.word_of, ["tree", "many"])
+        self.assert_arguments(words.tree_of, ["word", "many"])
+
+    def test_middles(self):
+        self.assert_arguments(middles.apart, ["tree", "many", "one", "other"])
+        self.assert_arguments(middles.middles, ["tree", "many"])
+        self.assert_arguments(middles.longest, ["tree", "many"])
 
 
 if __name__ == "__main__":

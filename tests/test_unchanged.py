@@ -1,11 +1,16 @@
 import unittest
+from itertools import product
 
 from tests import samples
 from twighall.changing import bridges, together, whole, without
 from twighall.counting import count_trees, trees
-from twighall.errors import NoGround, NoText
+from twighall.errors import NoGround, NoText, NoTree
+from twighall.lightest import is_only, length_of, lightest
+from twighall.middles import apart, longest, middles
 from twighall.reading import read
 from twighall.things import is_ground, is_plain_tree, is_tree, joined
+from twighall.ways import steps, swaps, way
+from twighall.words import tree_of, word_of
 from twighall.writing import written
 
 STAR = ((0, 1), (0, 2), (0, 3))
@@ -32,16 +37,48 @@ def read_or_refused(text):
         return "refused"
 
 
+def told_or_refused(asked, ground):
+    try:
+        return asked(ground)
+    except NoTree:
+        return "refused"
+
+
 def all_told(ground):
     """What the functions that take a ground, one of its lines, its spots or its text tell of it."""
     told = [trees(ground), count_trees(ground), bridges(ground), whole(ground[0]), read(written(ground))]
     for line in range(len(ground[1])):
-        told += [without(ground, line), together(ground, line)]
-    return told
+        told += [without(ground, line), together(ground, line), length_of(ground, tuple(range(line)))]
+    return told + [told_or_refused(lightest, ground)]
+
+
+def all_told_of_tree(tree, last, ground):
+    """What the functions that take a tree of the ground tell of it, with the other tree last."""
+    told = [length_of(ground, tree), steps(ground, tree, last)]
+    told += [swaps(ground, tree, line) for line in range(len(ground[1])) if line not in tree]
+    return told + [way(ground, tree, *ends) for ends in product(range(ground[0]), repeat=2)]
+
+
+def all_told_of_plain_tree(tree, many):
+    told = [word_of(tree, many), tree_of(word_of(tree, many), many), middles(tree, many), longest(tree, many)]
+    return told + [apart(tree, many, *ends) for ends in product(range(many), repeat=2)]
 
 
 def some_grounds():
     return samples.GROUNDS + samples.mixed_grounds(6) + samples.mixed_grounds(12)
+
+
+def some_trees():
+    """Trees with the last tree of their grounds, and the grounds."""
+    some = []
+    for ground in some_grounds() + [samples.mixed_ground(7, 21, 5)]:
+        told = trees(ground)
+        some += [(tree, told[-1], ground) for tree in told[::len(told) // 4 + 1]]
+    return some
+
+
+def some_plain_trees():
+    return [(tree, many) for many in range(1, 8) for tree in samples.plain_trees(many)[::101]]
 
 
 class Unchanged(unittest.TestCase):
@@ -82,6 +119,37 @@ class Unchanged(unittest.TestCase):
         first = [all_told(ground) for ground in some_grounds()]
         again = [all_told(ground) for ground in reversed(some_grounds())]
         self.assertEqual(first, again[::-1])
+
+    def test_whether_it_is_the_only_one_is_told_again_the_same(self):
+        first = [told_or_refused(is_only, ground) for ground in some_grounds()]
+        again = [told_or_refused(is_only, ground) for ground in reversed(some_grounds())]
+        self.assertEqual(first, again[::-1])
+        for told in first:
+            self.assertIn(type(told), (bool, str))
+
+    def test_of_trees_and_plain_trees(self):
+        for asked, handed_in in ((all_told_of_tree, some_trees()), (all_told_of_plain_tree, some_plain_trees())):
+            before = kinds_and_parts(handed_in)
+            first = [asked(*things) for things in handed_in]
+            again = [asked(*things) for things in reversed(handed_in)]
+            self.assertEqual(first, again[::-1])
+            self.assertEqual(kinds_and_parts(handed_in), before)
+            for told in first:
+                self.assertTrue(samples.is_made_of_tuples(tuple(told)))
+
+    def test_lists_handed_in_for_trees_are_not_changed(self):
+        for tree, last, ground in some_trees():
+            listed = samples.as_lists((ground, tree, last))
+            all_told_of_tree(listed[1], listed[2], listed[0])
+            told_or_refused(lightest, listed[0])
+            told_or_refused(is_only, listed[0])
+            self.assertEqual(listed, samples.as_lists((ground, tree, last)))
+        for tree, many in some_plain_trees():
+            listed = samples.as_lists(tree)
+            word = list(word_of(listed, many))
+            tree_of(word, many)
+            all_told_of_plain_tree(listed, many)
+            self.assertEqual((listed, word), (samples.as_lists(tree), list(word_of(tree, many))))
 
     def test_texts_are_told_again_the_same(self):
         texts = [written(ground) for ground in some_grounds()] + ["", "spots 8", "spots 1 ", "spots 2 line 1 0 1"]
